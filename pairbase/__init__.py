@@ -1,0 +1,1 @@
+"""Pairbase: pairs of whole numbers told by figures in a base that is a pair, too."""
